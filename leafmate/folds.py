@@ -17,10 +17,15 @@ PILES = {
 }
 
 
+def good_folds(folds):
+    """Whether a sheet can be folded so often."""
+    return 1 <= folds <= 3
+
+
 # Numbers of any size are refused, and Python writes out none of very many digits: so no message here has the number.
 def check_folds(folds):
     """Refuse with BadFolds."""
-    if folds < 1 or folds > 3:
+    if not good_folds(folds):
         raise BadFolds("folds are from 1 to 3")
 
 

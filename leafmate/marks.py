@@ -10,10 +10,15 @@ QUARTERS = (("a", 0, 0), ("b", 0, 1), ("c", 1, 0), ("d", 1, 1))
 SIDES = (("m", "f"), ("m", "f"), ("f", "m"), ("f", "m"))
 
 
+def good_lay(lay):
+    """Whether a sheet can lie so."""
+    return 0 <= lay <= 3
+
+
 def check_lay(folds, lay):
     """Refuse with BadFolds, BadLay."""
     check_folds(folds)
-    if lay < 0 or lay > 3:
+    if not good_lay(lay):
         raise BadLay("lays are from 0 to 3")
 
 

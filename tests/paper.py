@@ -1,4 +1,4 @@
-"""A sheet of eight fields, folded field by field as points [2] to [6] say.
+"""A sheet of eight fields, folded field by field as points [2] to [6] say, and gatherings of such sheets.
 
 Nothing here comes from the package: the tests hold the package against it.
 """
@@ -9,6 +9,17 @@ LAYS = (0, 1, 2, 3)
 FAR = 10 ** 5000
 BAD_FOLDS = (0, 4, -1, -2, 5, 99, -99, FAR, -FAR)
 BAD_LAYS = (-1, 4, -2, 5, 99, -99, FAR, -FAR)
+
+# All signs that texts have.
+SIGNS = "".join(chr(code) for code in range(32, 127) if code != 37) + "\n"
+LETTERS = "abcdefghijklmnopqrstuvwxyz"
+BAD_NAMES = (
+    "", "abcdefghi", "a" * 100, "A", "Abc", "abC", "a1", "1", "a b", " ab", "ab ", "ab\n", "\n", "?", "a?", "a-b",
+)
+BAD_SHEETS = tuple(
+    [("ab", folds, 0) for folds in BAD_FOLDS] + [("ab", 3, lay) for lay in BAD_LAYS]
+    + [(name, 1, 0) for name in BAD_NAMES] + [("", 0, 4)]
+)
 
 UPPER_OVER_LOWER = 0
 LEFT_OVER_RIGHT = 1
@@ -73,3 +84,18 @@ def told_pairs(folds, lay):
         part = "".join(q for q in "abcd" if MOVED[lay](*HOME[q]) in fields)
         pairs.append((side, part))
     return pairs
+
+
+def told_leaves(sheet):
+    """(side, mould, part) of each leaf of a sheet."""
+    mould, folds, lay = sheet
+    return [(side, mould if part != "" else "", part) for side, part in told_pairs(folds, lay)]
+
+
+def nested(sheets):
+    """(number of the sheet, number of its leaf) as they lie: each sheet put into the middle of what is there."""
+    pile = []
+    for number, (mould, folds, lay) in enumerate(sheets):
+        middle = len(pile) // 2
+        pile[middle:middle] = [(number, leaf) for leaf in range(COUNT[folds])]
+    return pile
