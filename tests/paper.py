@@ -1,7 +1,11 @@
-"""A sheet of eight fields, folded field by field as points [2] to [6] say, and gatherings of such sheets.
+"""A sheet of eight fields, folded field by field as points [2] to [6] say, gatherings and makings of such sheets.
 
 Nothing here comes from the package: the tests hold the package against it.
 """
+
+import collections
+import functools
+import itertools
 
 FOLDS = (1, 2, 3)
 LAYS = (0, 1, 2, 3)
@@ -54,6 +58,7 @@ def fold_over(piles, axis):
     return folded
 
 
+@functools.cache
 def folded_leaves(folds):
     """For each leaf from the uppermost on: the set of its fields, and whether it is over."""
     piles = {(r, c): [((r, c), 0)] for r in range(2) for c in range(4)}
@@ -86,8 +91,9 @@ def told_pairs(folds, lay):
     return pairs
 
 
+@functools.cache
 def told_leaves(sheet):
-    """(side, mould, part) of each leaf of a sheet."""
+    """(side, mould, part) of each leaf of a sheet; nobody changes this list."""
     mould, folds, lay = sheet
     return [(side, mould if part != "" else "", part) for side, part in told_pairs(folds, lay)]
 
@@ -99,3 +105,200 @@ def nested(sheets):
         middle = len(pile) // 2
         pile[middle:middle] = [(number, leaf) for leaf in range(COUNT[folds])]
     return pile
+
+
+BAD_MOULDS = ([], ["a", "b", "c", "d"], ["ox", "ox"], ["ox", "a", "ox"], ["Ox"], ["ox", ""], ["abcdefghi"], ["a b"])
+UNSEEN = ("?", "?", "?")
+BAD_LEAVES = (
+    ("x", "ox", "ab"), ("", "ox", "ab"), ("m", "", "ab"), ("m", "ox", ""), ("m", "?", "ab"), ("m", "ox", "?"),
+    ("m", "ox", "ac"), ("m", "Ox", "ab"), ("m", "?", ""), ("m", "", "?"), ("ox", "m", "ab"), ("m", "abcdefghi", "a"),
+)
+
+
+def fit(seen, leaf):
+    """Whether what was looked at is the same."""
+    return seen[0] in ("?", leaf[0]) and (seen[1:] == ("?", "?") or seen[1:] == leaf[1:])
+
+
+def left_leaves(making):
+    """(number of the gathering, of the sheet, of the leaf, the leaf itself) of the leaves that are not lost."""
+    left = []
+    for number, gathering in enumerate(making):
+        for sheet, leaf in nested([sheet for sheet, gone in gathering]):
+            if leaf not in gathering[sheet][1]:
+                left.append((number, sheet, leaf, told_leaves(gathering[sheet][0])[leaf]))
+    return left
+
+
+def left_row(making):
+    """The leaves that are not lost."""
+    return [leaf for number, sheet, place, leaf in left_leaves(making)]
+
+
+def lost_count(making):
+    return sum(len(gone) for gathering in making for sheet, gone in gathering)
+
+
+def mate_pairs(making):
+    """The pairs (lower, higher) of places in the row that are mates of one sheet."""
+    left = left_leaves(making)
+    pairs = set()
+    for (i, one), (j, other) in itertools.combinations(enumerate(left), 2):
+        folds = making[one[0]][one[1]][0][1]
+        if one[:2] == other[:2] and one[2] + other[2] == COUNT[folds] - 1:
+            pairs.add((i, j))
+    return frozenset(pairs)
+
+
+def keeps(pairs, rule):
+    """Whether a making of these pairs of mates keeps the rule."""
+    if rule is None:
+        return True
+    word, one, other = rule
+    return ((min(one, other), max(one, other)) in pairs) == (word == "mates")
+
+
+def is_good_making(making, moulds, row, rule=None):
+    """Whether it is a making of the moulds that lets the row by and keeps the rule."""
+    if type(making) is not list or not all(type(gathering) is list and gathering for gathering in making):
+        return False
+    for sheet, gone in itertools.chain(*making):
+        mould, folds, lay = sheet
+        if mould not in moulds or folds not in FOLDS or lay not in LAYS or type(gone) is not tuple:
+            return False
+        if gone != tuple(sorted(set(gone) & set(range(COUNT[folds])))) or len(gone) == COUNT[folds]:
+            return False
+    left = left_row(making)
+    if len(left) != len(row) or not all(fit(seen, leaf) for seen, leaf in zip(row, left)):
+        return False
+    return keeps(mate_pairs(making), rule)
+
+
+def pieces(moulds):
+    """All pairs of a sheet and leaves that it can have lost."""
+    return [
+        (sheet, gone)
+        for sheet in itertools.product(moulds, FOLDS, LAYS)
+        for many in range(COUNT[sheet[1]])
+        for gone in itertools.combinations(range(COUNT[sheet[1]]), many)
+    ]
+
+
+def all_makings(moulds, left, lost):
+    """All makings of which so many leaves are left and at most so many are lost, one by one."""
+    found = [(COUNT[sheet[1]] - len(gone), len(gone), (sheet, gone)) for sheet, gone in pieces(moulds)]
+
+    def grown(making, left, lost):
+        if left == 0:
+            yield making
+        for kept, gone, piece in found:
+            if kept <= left and gone <= lost:
+                yield from grown(making + [[piece]], left - kept, lost - gone)
+                if making:
+                    yield from grown(making[:-1] + [making[-1] + [piece]], left - kept, lost - gone)
+
+    return grown([], left, lost)
+
+
+def census(moulds, left, lost):
+    """Of all these makings: for each row how many lose so many leaves and have these mates."""
+    rows = collections.defaultdict(collections.Counter)
+    for making in all_makings(moulds, left, lost):
+        rows[tuple(left_row(making))][lost_count(making), mate_pairs(making)] += 1
+    return rows
+
+
+def reckoned_by(rows, row, rule=None):
+    """(the fewest lost, how many makings lose just these) by the census, or None where it has no such making."""
+    many = collections.Counter()
+    for left, found in rows.items():
+        if all(fit(seen, leaf) for seen, leaf in zip(row, left)):
+            for (lost, pairs), times in found.items():
+                if keeps(pairs, rule):
+                    many[lost] += times
+    return min(many.items(), default=None)
+
+
+def kept_well(row, told, gone, i, j, rule):
+    """(x, y, lost) where the sheet of these leaves, less the lost ones, can lie around seen leaves i to j - 1, or None."""
+    size = len(told)
+    first = [leaf for leaf in range(size // 2) if leaf not in gone]
+    second = [leaf for leaf in range(size // 2, size) if leaf not in gone]
+    x, y = len(first), len(second)
+    if x + y > j - i:
+        return None
+    kept = dict(zip([*range(i, i + x), *range(j - y, j)], first + second))
+    if not all(fit(row[place], told[leaf]) for place, leaf in kept.items()):
+        return None
+    if rule is not None:
+        both = [kept[place] for place in rule[1:] if place in kept]
+        mates = len(both) == 2 and sum(both) == size - 1
+        if mates if rule[0] == "apart" else (both and not mates):
+            return None
+    return x, y, len(gone)
+
+
+def bars_by(row, moulds, rule, paper, count):
+    """Point [14], condition by condition."""
+    stretches, starts = paper
+    n = len(row)
+    if [len(numbers) for numbers in stretches] != list(range(n, 0, -1)) or len(starts) != n + 1:
+        return False
+    if starts[0] > 0 or starts[n] < count:
+        return False
+    s = {(i, i): 0 for i in range(n + 1)}
+    s.update({(i, j): stretches[i][j - i - 1] for i in range(n) for j in range(i + 1, n + 1)})
+    if any(starts[j] > starts[i] + s[i, j] for i in range(n) for j in range(i + 1, n + 1)):
+        return False
+    for sheet, gone in pieces(moulds):
+        told = told_leaves(sheet)
+        for i, j in itertools.combinations(range(n + 1), 2):
+            kept = kept_well(row, told, gone, i, j, rule)
+            if kept is not None and s[i, j] > kept[2] + s[i + kept[0], j - kept[1]]:
+                return False
+    return True
+
+
+def some_making(chance, moulds, left):
+    """Some making of which just so many leaves are left; chance is a random.Random of a told seed."""
+    making = []
+    while left > 0:
+        sheet = (chance.choice(moulds), chance.choice(FOLDS), chance.choice(LAYS))
+        size = COUNT[sheet[1]]
+        kept = chance.choice([min(size, left), chance.randint(1, min(size, left))])
+        gone = tuple(sorted(chance.sample(range(size), size - kept)))
+        if making and chance.random() < 0.6:
+            making[-1].append((sheet, gone))
+        else:
+            making.append([(sheet, gone)])
+        left -= kept
+    return making
+
+
+def looked_at(chance, row, share):
+    """The row with some of it not looked at."""
+    seen = []
+    for up, mould, part in row:
+        side = up if chance.random() < share else "?"
+        seen.append((side, mould, part) if chance.random() < share else (side, "?", "?"))
+    return seen
+
+
+def some_rows(chance, moulds, lengths, times):
+    """Rows of these lengths, of some makings, looked at in part, some with a leaf that does not belong there."""
+    rows = []
+    for length in lengths:
+        for time in range(times):
+            row = looked_at(chance, left_row(some_making(chance, moulds, length)), (1, 0.7, 0.4)[time % 3])
+            if length and time % 4 == 3:
+                sheet = (chance.choice(moulds), chance.choice(FOLDS), chance.choice(LAYS))
+                row[chance.randrange(length)] = chance.choice(told_leaves(sheet))
+            rows.append(row)
+    return rows
+
+
+def some_rules(chance, row):
+    """No rule, and where the row has two leaves one of each kind, either way about."""
+    if len(row) < 2:
+        return [None]
+    return [None] + [(word, *chance.sample(range(len(row)), 2)) for word in ("mates", "apart")]
