@@ -1,4 +1,4 @@
-"""A sheet of eight fields, folded field by field as points [2] to [6] say, gatherings and makings of such sheets.
+"""A sheet of eight fields, folded field by field as points [2] to [6] say; gatherings, makings and books of such sheets.
 
 Nothing here comes from the package: the tests hold the package against it.
 """
@@ -6,6 +6,7 @@ Nothing here comes from the package: the tests hold the package against it.
 import collections
 import functools
 import itertools
+import re
 
 FOLDS = (1, 2, 3)
 LAYS = (0, 1, 2, 3)
@@ -302,3 +303,199 @@ def some_rules(chance, row):
     if len(row) < 2:
         return [None]
     return [None] + [(word, *chance.sample(range(len(row)), 2)) for word in ("mates", "apart")]
+
+
+def counted(row, moulds, rule=None):
+    """(the fewest lost, how many makings lose just these), piece by piece of each stretch, or None."""
+    n = len(row)
+    found = [(told_leaves(sheet), gone) for sheet, gone in pieces(moulds)]
+    within = {(i, i): (0, 1) for i in range(n + 1)}
+    for i, j in sorted(itertools.combinations(range(n + 1), 2), key=lambda stretch: stretch[1] - stretch[0]):
+        kinds = [kept_well(row, told, gone, i, j, rule) for told, gone in found]
+        ways = [(lost, within[i + x, j - y]) for x, y, lost in filter(None, kinds)]
+        within[i, j] = best_of([(lost + inner[0], inner[1]) for lost, inner in ways if inner is not None])
+    ahead = [(0, 1)]
+    for j in range(1, n + 1):
+        pairs = [(ahead[i], within[i, j]) for i in range(j) if ahead[i] is not None and within[i, j] is not None]
+        ahead.append(best_of([(one[0] + other[0], one[1] * other[1]) for one, other in pairs]))
+    return ahead[n]
+
+
+def best_of(pairs):
+    """(the least first number, the sum of the second numbers beside it), or None of none."""
+    least = min([number for number, times in pairs], default=None)
+    return None if least is None else (least, sum(times for number, times in pairs if number == least))
+
+
+class Refused(Exception):
+    """A refusal, told by the name of its class."""
+
+
+class PaperBook:
+    """A book that keeps each sheet with the numbers of its leaves, and lays the sheets anew for each question."""
+
+    def __init__(self, moulds):
+        self.names = list(moulds)
+        self.gatherings = []
+        self.given = 0
+        self.came = 0
+        self.torn = set()
+
+    def standing(self, number):
+        for own, sheets in self.gatherings:
+            if own == number:
+                return sheets
+        raise Refused("NoGathering")
+
+    def lying(self, number):
+        """(leaf, number of the sheet, number among the sheet's leaves) as they lie."""
+        sheets = self.standing(number)
+        return [(sheets[sheet][1][leaf], sheet, leaf) for sheet, leaf in nested([sheet for sheet, numbers in sheets])]
+
+    def check_leaf(self, leaf):
+        if leaf not in range(self.came):
+            raise Refused("NoLeaf")
+
+    def do(self, deed):
+        return getattr(self, "do_" + deed[0])(*deed[1:])
+
+    def do_gather(self, *sheets):
+        if not sheets:
+            raise Refused("NoSheets")
+        if not all(mould in self.names and folds in FOLDS and lay in LAYS for mould, folds, lay in sheets):
+            raise Refused("BadSheet")
+        if self.came + sum(COUNT[folds] for mould, folds, lay in sheets) > 128:
+            raise Refused("Full")
+        numbers = [[None] * COUNT[folds] for mould, folds, lay in sheets]
+        for sheet, leaf in nested(sheets):
+            numbers[sheet][leaf] = self.came
+            self.came += 1
+        self.gatherings.append((self.given, list(zip(sheets, numbers))))
+        self.given += 1
+        return self.given - 1
+
+    def do_nest(self, inner, outer):
+        within, around = self.standing(inner), self.standing(outer)
+        if inner == outer:
+            raise Refused("SameOne")
+        around.extend(within)
+        self.gatherings = [pair for pair in self.gatherings if pair[0] != inner]
+
+    def do_sew(self, *order):
+        if sorted(order) != sorted(number for number, sheets in self.gatherings):
+            raise Refused("BadOrder")
+        self.gatherings = [(number, self.standing(number)) for number in order]
+
+    def do_tear(self, leaf):
+        self.check_leaf(leaf)
+        if leaf in self.torn:
+            raise Refused("Torn")
+        self.torn.add(leaf)
+
+    def do_mend(self, leaf):
+        self.check_leaf(leaf)
+        if leaf not in self.torn:
+            raise Refused("NotTorn")
+        self.torn.remove(leaf)
+
+    def do_shed(self, number):
+        there = sorted(leaf for leaf, sheet, own in self.lying(number) if leaf not in self.torn)
+        self.torn.update(there)
+        return there
+
+    def word(self, number):
+        """The word of a gathering in the formula."""
+        gone = [str(k) for k, (leaf, sheet, own) in enumerate(self.lying(number), 1) if leaf in self.torn]
+        figures = "".join(str(sheet[1]) for sheet, numbers in self.standing(number))
+        return "-".join([figures, ".".join(gone)] if gone else [figures])
+
+    def stand(self):
+        """All that is told of the book, as told_of asks for it."""
+        order = [number for number, sheets in self.gatherings]
+        where, mate, look, leaves = {}, {}, {}, []
+        for number, sheets in self.gatherings:
+            for leaf, sheet, own in self.lying(number):
+                where[leaf] = (number, sheet, own)
+                other = sheets[sheet][1][len(sheets[sheet][1]) - 1 - own]
+                mate[leaf] = "Torn" if leaf in self.torn else None if other in self.torn else other
+                look[leaf] = "Torn" if leaf in self.torn else told_leaves(sheets[sheet][0])[own]
+                if leaf not in self.torn:
+                    leaves.append(leaf)
+        return {
+            "moulds": self.names, "gatherings": order, "made": self.came, "leaves": leaves, "torn": sorted(self.torn),
+            "seen": [look[leaf] for leaf in leaves], "formula": " ".join(self.word(number) for number in order),
+            "sheets": {number: [sheet for sheet, numbers in self.standing(number)] for number in order},
+            "leaves_of": {number: [leaf for leaf, sheet, own in self.lying(number)] for number in order},
+            "where": where, "mate": mate, "look": look,
+        }
+
+
+def told_of(book):
+    """All that a book tells; for what it refuses the name of the refusal."""
+    told = {name: getattr(book, name)() for name in ("moulds", "gatherings", "made", "leaves", "torn", "seen", "formula")}
+    for name in ("sheets", "leaves_of"):
+        told[name] = {number: getattr(book, name)(number) for number in book.gatherings()}
+    for name in ("where", "mate", "look"):
+        told[name] = {leaf: answer(getattr(book, name), leaf) for leaf in range(book.made())}
+    return told
+
+
+def answer(ask, *things):
+    """What is told, or the name of the refusal."""
+    try:
+        return ask(*things)
+    except ValueError as refusal:
+        return type(refusal).__name__
+
+
+def some_deed(chance, book, good=0.8):
+    """Some deed for a PaperBook, often one that it does not refuse."""
+    numbers = [number for number, sheets in book.gatherings]
+    sound = chance.random() < good
+    word = chance.choice(("gather", "gather", "nest", "sew", "tear", "tear", "tear", "mend", "shed"))
+    if sound and (not numbers or word == "mend" and not book.torn):
+        word = "gather"
+    if word == "gather":
+        sheets = [(chance.choice(book.names), chance.choice(FOLDS), chance.choice(LAYS)) for time in range(4)]
+        if not sound:
+            sheets[0] = chance.choice(BAD_SHEETS + (("none", 1, 1),))
+        return (word, *sheets[:chance.choice((1, 1, 1, 2, 2, 3, 4) if sound else (0, 1, 4))])
+    if sound:
+        leaf = chance.choice(sorted(book.torn) if word == "mend" else range(book.came))
+        things = {
+            "nest": chance.sample(numbers, 2) if len(numbers) > 1 else numbers * 2,
+            "sew": chance.sample(numbers, len(numbers)), "shed": [chance.choice(numbers)],
+        }
+        return (word, *things.get(word, [leaf]))
+    wild = [chance.choice((-1, -2, 0, 1, 2, 3, book.came, book.came - 1, book.given, 99, FAR, -FAR)) for time in range(4)]
+    return (word, *wild[:{"nest": 2, "sew": 4}.get(word, 1)])
+
+
+NUMBER = "(?:0|[1-9][0-9]*)"
+HEAD_ROW = re.compile("moulds((?: [a-z]{1,8}){1,3})")
+DEED_ROW = re.compile(
+    f"gather((?: [a-z]{{1,8}} {NUMBER} {NUMBER})+)|(nest) {NUMBER} {NUMBER}|sew(?: {NUMBER})*|(tear|mend|shed) {NUMBER}"
+)
+
+
+def first_wrong(text):
+    """The number of the first wrong row of a journal's text, or None where a journal has it."""
+    rows = text.split("\n")
+    head = HEAD_ROW.fullmatch(rows[0])
+    names = head[1].split() if head else []
+    if not head or len(set(names)) < len(names):
+        return 0
+    book = PaperBook(names)
+    for number, row in enumerate(rows[1:], 1):
+        if not DEED_ROW.fullmatch(row):
+            return number
+        word, *words = row.split(" ")
+        if word == "gather":
+            things = [(words[k], int(words[k + 1]), int(words[k + 2])) for k in range(0, len(words), 3)]
+        else:
+            things = [int(figures) for figures in words]
+        try:
+            book.do((word, *things))
+        except Refused:
+            return number
+    return None
